@@ -1,0 +1,1 @@
+"""Machines that write sign by sign, and what they write alike."""
