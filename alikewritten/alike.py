@@ -1,6 +1,6 @@
 """Two unlike messages that a writer writes alike."""
 
-from alikewritten.ways import least_way
+from alikewritten.ways import least_way, without_shared
 from alikewritten.writers import check_writer
 
 # Two messages are followed side by side. A place is one of:
@@ -85,6 +85,6 @@ def with_side(pair, side, value):
 
 
 def add_apart(steps, mark, states, texts):
-    shared = min(len(texts[0]), len(texts[1]))
-    if texts[0][:shared] == texts[1][:shared]:
-        steps.append((mark, (APART, states, (texts[0][shared:], texts[1][shared:]))))
+    rests = without_shared(texts[0], texts[1])
+    if rests[0] == "" or rests[1] == "":
+        steps.append((mark, (APART, states, rests)))

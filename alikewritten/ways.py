@@ -1,6 +1,7 @@
-"""The least way from a place to one of the ends, as a list of marks."""
+"""What the searches share: the least way to an end, and what sets two texts apart."""
 
 
+# The way is told as a list of marks, or None where no end can be come to.
 # steps(place) lists pairs of a mark and the place it leads to. A list of steps
 # in rising order of marks makes the told way the least one: places are then
 # found in the order of their least ways, level by level.
@@ -33,3 +34,10 @@ def way_to(came, place):
         step = came[step[0]]
     marks.reverse()
     return marks
+
+
+def without_shared(text, other):
+    shared = 0
+    while shared < min(len(text), len(other)) and text[shared] == other[shared]:
+        shared += 1
+    return (text[shared:], other[shared:])

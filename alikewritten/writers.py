@@ -12,14 +12,18 @@ LETTERS = "abcd"
 def written(writer, message):
     check_writer(writer)
     check_message(writer, message)
-    state = 0
+    onward = run(writer, 0, message)
+    return onward[0] + writer[2][onward[1]]
+
+
+def run(writer, start, message):
+    state = start
     words = []
     for sign in message:
         step = writer[1][state][sign]
         words.append(step[0])
         state = step[1]
-    words.append(writer[2][state])
-    return "".join(words)
+    return ("".join(words), state)
 
 
 # A place is a state and how many signs of the text are written on coming there:

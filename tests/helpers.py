@@ -97,3 +97,41 @@ def some_writers(count, signs, states, words, seed):
         )
         found.append((signs, rows, tuple(chance.choice(words) for _ in range(states))))
     return found
+
+
+def some_pieces(count, letters, longest, seed):
+    """So many pieces of at most so many letters, the same ones each time."""
+    chance = random.Random(seed)
+    return ["".join(chance.choices(letters, k=chance.randint(1, longest))) for _ in range(count)]
+
+
+def first_message(signs, length, holds):
+    """The least message of at most so many signs of which that holds, or None."""
+    for message in messages_up_to(signs, length):
+        if holds(message):
+            return message
+    return None
+
+
+def renumbered(writer, order):
+    """The same writer with its states in this order; state 0 stays where it is."""
+    signs, rows, endings = writer
+    place = {state: at for at, state in enumerate(order)}
+    turned = tuple(tuple((word, place[following]) for word, following in rows[state]) for state in order)
+    return (signs, turned, tuple(endings[state] for state in order))
+
+
+def late_and_early(signs, states, seed):
+    """Two writers that write the same by unlike words: on leaving a state, or already on coming to it, a part is written."""
+    chance = random.Random(seed)
+    parts = [""] + [chance.choice(("", "a", "ab", "abc", "ba")) for _ in range(states - 1)]
+    words = [[chance.choice(("", "a", "b", "ab", "c")) for _ in range(signs)] for _ in range(states)]
+    goals = [[chance.randrange(states) for _ in range(signs)] for _ in range(states)]
+    ends = [chance.choice(("", "a", "b", "ab")) for _ in range(states)]
+    late, early = [], []
+    for state in range(states):
+        pairs = list(zip(words[state], goals[state]))
+        late.append(tuple((parts[state] + word, goal) for word, goal in pairs))
+        early.append(tuple((word + parts[goal], goal) for word, goal in pairs))
+    late_ends = tuple(part + end for part, end in zip(parts, ends))
+    return (signs, tuple(late), late_ends), (signs, tuple(early), tuple(ends))

@@ -4,13 +4,34 @@ import unittest
 
 from alikewritten.alike import alike
 from alikewritten.errors import NoWriter
+from alikewritten.notes import shown
+from alikewritten.pieces import with_piece
+from alikewritten.two import joined, parted
 from alikewritten.writers import read_back, written
 from helpers import fullest_writer
+
+
+def beside(writer):
+    """A writer with as many signs, where that can be."""
+    signs = writer[0] if writer and writer[0] in (1, 2, 3, 4) else 2
+    return (signs, ((("a", 0),) * signs,), ("",))
+
+
+# With these before and behind it, whatever is a writer has room when it is joined.
+ONE_LETTER = (1, ((("a", 0),),), ("",))
+EACH_LETTER = (4, ((("a", 0), ("b", 0), ("c", 0), ("d", 0)),), ("",))
 
 TAKERS = {
     "written": lambda writer: written(writer, []),
     "read_back": lambda writer: read_back(writer, ""),
     "alike": lambda writer: alike(writer),
+    "with_piece": lambda writer: with_piece(writer, "a"),
+    "parted, as the first": lambda writer: parted(writer, beside(writer)),
+    "parted, as the second": lambda writer: parted(beside(writer), writer),
+    "parted, as both": lambda writer: parted(writer, writer),
+    "joined, as the first": lambda writer: joined(writer, EACH_LETTER),
+    "joined, as the second": lambda writer: joined(ONE_LETTER, writer),
+    "shown": lambda writer: shown(writer),
 }
 
 
